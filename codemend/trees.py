@@ -1,7 +1,7 @@
 """Trees of numbered places with words. A node is a tuple (label, words, kids)."""
 
 from codemend.errors import NoPlace
-from codemend.labels import is_label, is_word, label_before
+from codemend.labels import is_label, is_word, label_before, label_rank
 
 MOST_DEEP = 9
 
@@ -75,6 +75,14 @@ def kid_with(node, label):
         if kid[0] == label:
             return kid
     return None
+
+
+def kid_labels(nodes):
+    """The labels of the kids of any of the nodes, each once, in their order."""
+    labels = {}
+    for kid in kids_of_all(nodes):
+        labels[kid[0]] = True
+    return sorted(list(labels), key=label_rank)
 
 
 def places(tree):

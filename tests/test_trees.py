@@ -3,7 +3,7 @@
 import unittest
 
 from codemend.errors import MendError, NoPlace
-from codemend.trees import deep, is_tree, node_at, places, with_kid, with_words, without
+from codemend.trees import deep, is_tree, kid_labels, node_at, places, with_kid, with_words, without
 from samples import (
     ALONE, MISSING_PLACES, OTHER_KINDS, SAMPLE_PLACES, bushy_chain, bushy_tree, chain, chain_tree, rebuilt, sample,
 )
@@ -295,6 +295,16 @@ class Places(unittest.TestCase):
         tree = sample()
         places(tree)
         self.assertEqual(tree, sample())
+
+
+class KidLabels(unittest.TestCase):
+    def test_of_one_node_and_of_several(self):
+        self.assertEqual(kid_labels(()), [])
+        self.assertEqual(kid_labels((ALONE, ALONE)), [])
+        self.assertEqual(kid_labels((sample(),)), ["1", "2", "2a", "10"])
+        other = ("", (), (("1a", (), (("7", (), ()),)), ("2", ("w",), ()), ("2aa", (), ()), ("9", (), ())))
+        for nodes in [(sample(), other), (other, sample()), (other, ALONE, sample(), other)]:
+            self.assertEqual(kid_labels(nodes), ["1", "1a", "2", "2a", "2aa", "9", "10"])
 
 
 class Refusals(unittest.TestCase):
