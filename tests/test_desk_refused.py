@@ -64,10 +64,10 @@ class Refused(unittest.TestCase):
             self.assertIsInstance(caught.exception, MendError)
             for name, value in fields.items():
                 self.assertEqual(getattr(caught.exception, name), value)
+            self.assert_as_before()
 
     def tearDown(self):
-        # Behind all that was refused the desk tells what it told before, and takes a good act, also of a name refused.
-        self.assert_as_before()
+        # Behind all that was refused the desk takes a good act, also of a name that was refused.
         self.assertEqual(self.desk.say("act a 3 4 in . 3 _; drop old 1; drop older 0"), "ok")
         self.assertEqual(self.desk.say("back b 4 old"), "ok")
         self.assertEqual(self.desk.say("text 9"), FIRST + "\n3")
@@ -80,6 +80,7 @@ class NoRows(Refused):
             with self.assertRaises(NoRow) as caught:
                 self.desk.say(thing)
             self.assertIsInstance(caught.exception, MendError)
+            self.assert_as_before()
 
     def test_no_signs_and_other_first_words(self):
         for row in [
@@ -224,7 +225,6 @@ class NoRows(Refused):
 
     def test_no_deed_of_a_refused_act_is_taken(self):
         self.assert_refused("act a 9 0 out 1; 0 out 2; 0 read . x; 0 out 01", NoRow)
-        self.assert_as_before()
 
     def test_ahead_of_all(self):
         for row in [
